@@ -1,0 +1,1 @@
+"""Cornerbids: what comes out if everybody bids for their wish."""

@@ -1,0 +1,51 @@
+"""Fractions: pairs (top, bottom) of integers in lowest terms, bottom from 1 on."""
+
+from math import gcd
+
+ZERO = (0, 1)
+ONE = (1, 1)
+
+
+def lowest(top, bottom):
+    """The fraction top / bottom; bottom is above 0."""
+    shared = gcd(top, bottom)
+    return (top // shared, bottom // shared)
+
+
+def plus(one, other):
+    return lowest(one[0] * other[1] + other[0] * one[1], one[1] * other[1])
+
+
+def minus(one, other):
+    return lowest(one[0] * other[1] - other[0] * one[1], one[1] * other[1])
+
+
+def times(one, other):
+    return lowest(one[0] * other[0], one[1] * other[1])
+
+
+def over(one, other):
+    """One divided by the other, which is above 0."""
+    return lowest(one[0] * other[1], one[1] * other[0])
+
+
+def is_less(one, other):
+    return one[0] * other[1] < other[0] * one[1]
+
+
+def lesser(one, other):
+    return other if is_less(other, one) else one
+
+
+def greater(one, other):
+    return other if is_less(one, other) else one
+
+
+def middle(low, high, number):
+    """The middle of three numbers, low being at most high."""
+    return greater(low, lesser(high, number))
+
+
+def apart(one, other):
+    """How far two fractions are from one another."""
+    return minus(greater(one, other), lesser(one, other))

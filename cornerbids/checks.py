@@ -1,0 +1,59 @@
+"""Whether a thing, which may be any object, is what a point asks for."""
+
+from math import gcd
+
+from cornerbids.errors import NoBids, NoLot, NoPerson, NoWishes
+
+
+def is_integer(thing):
+    return isinstance(thing, int) and not isinstance(thing, bool)
+
+
+def is_number(thing):
+    """Whether a thing is a fraction from 0 to 1."""
+    if not (isinstance(thing, tuple) and len(thing) == 2):
+        return False
+    top, bottom = thing
+    if not (is_integer(top) and is_integer(bottom)):
+        return False
+    return bottom >= 1 and 0 <= top <= bottom and gcd(top, bottom) == 1
+
+
+def are_numbers(thing, many):
+    """Whether a thing is a tuple of so many numbers."""
+    return isinstance(thing, tuple) and len(thing) == many and all([is_number(number) for number in thing])
+
+
+def is_person(thing, people):
+    return is_integer(thing) and 0 <= thing < people
+
+
+def are_persons(thing, people):
+    """Whether a thing is a tuple of persons, in any order, perhaps alike ones."""
+    return isinstance(thing, tuple) and all([is_person(person, people) for person in thing])
+
+
+def is_lot(thing, people):
+    if not are_persons(thing, people):
+        return False
+    return all([thing[at - 1] < thing[at] for at in range(1, len(thing))])
+
+
+def need_wishes(rule, thing):
+    if not are_numbers(thing, rule.people):
+        raise NoWishes()
+
+
+def need_bids(rule, thing):
+    if not are_numbers(thing, rule.people):
+        raise NoBids()
+
+
+def need_person(rule, thing):
+    if not is_person(thing, rule.people):
+        raise NoPerson()
+
+
+def need_lot(rule, thing):
+    if not is_lot(thing, rule.people):
+        raise NoLot()

@@ -1,0 +1,86 @@
+"""The outcome: the one number that is held from both sides."""
+
+from cornerbids.amounts import ONE, ZERO, is_less
+from cornerbids.checks import is_number, need_bids, need_lot, need_wishes
+from cornerbids.corners import corner_of, lots_among
+from cornerbids.terms import Numbers, worked
+
+
+def outcome(rule, wishes):
+    """The number that comes out if the persons wish these."""
+    need_wishes(rule, wishes)
+    return outcome_of(rule, wishes)
+
+
+def outcome_of(rule, wishes):
+    everybody = tuple(range(rule.people))
+    # If all are still to bid, what was bid means nothing: the wishes fill the place.
+    return settled(rule.term, wishes, wishes, everybody, Numbers())
+
+
+def is_outcome(rule, wishes, thing):
+    """Whether a thing is the number that comes out."""
+    need_wishes(rule, wishes)
+    return is_number(thing) and thing == outcome_of(rule, wishes)
+
+
+def outcome_behind(rule, wishes, bids, later):
+    """The number that comes out if those of later are still to bid, the others having bid."""
+    need_wishes(rule, wishes)
+    need_bids(rule, bids)
+    need_lot(rule, later)
+    return settled(rule.term, wishes, bids, later, Numbers())
+
+
+def settled(term, wishes, bids, later, ways):
+    """What comes out if those of later are still to bid, what the others bid being such as the ways put together.
+
+    It is the greatest, over all lots of later, of the least of what the term tells if they bid 1, and the wishes
+    in the lot; the lots of those who wish at least so much are enough.
+    """
+    found = worked(term, pushed(bids, later, (), ways), ways)
+    for person in later:
+        eager = [other for other in later if not is_less(wishes[other], wishes[person])]
+        told = worked(term, pushed(bids, later, eager, ways), ways)
+        found = ways.greater(found, ways.lesser(ways.fixed(wishes[person]), told))
+    return found
+
+
+def pushed(bids, later, eager, ways):
+    """The bids with 1 in the places of the eager ones, 0 in those of the others of later."""
+    found = list(bids)
+    for person in later:
+        found[person] = ways.fixed(ONE if person in eager else ZERO)
+    return found
+
+
+def sides(rule, wishes):
+    """The lots of those who wish less than the outcome, just it, and more."""
+    need_wishes(rule, wishes)
+    told = outcome_of(rule, wishes)
+    less = tuple([person for person in range(rule.people) if is_less(wishes[person], told)])
+    just = tuple([person for person in range(rule.people) if wishes[person] == told])
+    more = tuple([person for person in range(rule.people) if is_less(told, wishes[person])])
+    return (less, just, more)
+
+
+def holding(rule, wishes):
+    """The lot of the fewest who wish at least the outcome and, bidding 1, hold it."""
+    less, just, more = sides(rule, wishes)
+    told = outcome_of(rule, wishes)
+    willing = sorted(just + more)
+    holders = [lot for lot in lots_among(willing) if not is_less(corner_of(rule, lot), told)]
+    return holders[0]
+
+
+def pressing(rule, wishes):
+    """The lot of the fewest who wish at most the outcome and without whom the others do not get above it."""
+    less, just, more = sides(rule, wishes)
+    told = outcome_of(rule, wishes)
+    willing = sorted(less + just)
+    pressers = [lot for lot in lots_among(willing) if not is_less(told, corner_of(rule, all_but(rule, lot)))]
+    return pressers[0]
+
+
+def all_but(rule, lot):
+    return [person for person in range(rule.people) if person not in lot]
