@@ -46,6 +46,14 @@ def middle(low, high, number):
     return greater(low, lesser(high, number))
 
 
+def mean_of(weights, numbers):
+    """The sum of numbers times their weights, divided by the sum of the weights."""
+    total = ZERO
+    for weight, number in zip(weights, numbers):
+        total = plus(total, (weight * number[0], number[1]))
+    return over(total, (sum(weights), 1))
+
+
 def apart(one, other):
     """How far two fractions are from one another."""
     return minus(greater(one, other), lesser(one, other))

@@ -2,7 +2,9 @@
 
 from math import gcd
 
-from cornerbids.errors import NoBids, NoLot, NoPerson, NoWishes
+from cornerbids.errors import NoBids, NoLot, NoNumber, NoPerson, NoPlay, NoSchedule, NoWishes
+
+MOST_TURNS = 12
 
 
 def is_integer(thing):
@@ -39,6 +41,20 @@ def is_lot(thing, people):
     return all([thing[at - 1] < thing[at] for at in range(1, len(thing))])
 
 
+def is_schedule(thing, people):
+    """Whether a thing is a tuple of 1 to 12 persons, each person at least once: a schedule, or an order to run by."""
+    return are_persons(thing, people) and len(thing) <= MOST_TURNS and len(set(thing)) == people
+
+
+def is_play(thing, schedule):
+    return isinstance(thing, tuple) and len(thing) <= len(schedule) and are_numbers(thing, len(thing))
+
+
+def need_number(thing):
+    if not is_number(thing):
+        raise NoNumber()
+
+
 def need_wishes(rule, thing):
     if not are_numbers(thing, rule.people):
         raise NoWishes()
@@ -57,3 +73,13 @@ def need_person(rule, thing):
 def need_lot(rule, thing):
     if not is_lot(thing, rule.people):
         raise NoLot()
+
+
+def need_schedule(rule, thing):
+    if not is_schedule(thing, rule.people):
+        raise NoSchedule()
+
+
+def need_play(schedule, thing):
+    if not is_play(thing, schedule):
+        raise NoPlay()

@@ -4,7 +4,7 @@ from itertools import combinations
 
 from cornerbids.amounts import ONE, ZERO
 from cornerbids.checks import need_lot
-from cornerbids.terms import told_by
+from cornerbids.terms import replaced, told_by
 
 
 def corner(rule, lot):
@@ -19,7 +19,7 @@ def corners(rule):
 
 
 def corner_of(rule, lot):
-    return told_by(rule.term, [ONE if person in lot else ZERO for person in range(rule.people)])
+    return told_by(rule.term, replaced((ZERO,) * rule.people, lot, ONE))
 
 
 def lots_among(persons):

@@ -3,7 +3,7 @@
 from cornerbids.amounts import ONE, ZERO, is_less
 from cornerbids.checks import is_number, need_bids, need_lot, need_wishes
 from cornerbids.corners import corner_of, lots_among
-from cornerbids.terms import Numbers, worked
+from cornerbids.terms import Numbers, replaced, worked
 
 
 def outcome(rule, wishes):
@@ -38,19 +38,12 @@ def settled(term, wishes, bids, later, ways):
     It is the greatest, over all lots of later, of the least of what the term tells if they bid 1, and the wishes
     in the lot; the lots of those who wish at least so much are enough.
     """
-    found = worked(term, pushed(bids, later, (), ways), ways)
+    lowered = replaced(bids, later, ways.fixed(ZERO))
+    found = worked(term, lowered, ways)
     for person in later:
         eager = [other for other in later if not is_less(wishes[other], wishes[person])]
-        told = worked(term, pushed(bids, later, eager, ways), ways)
+        told = worked(term, replaced(lowered, eager, ways.fixed(ONE)), ways)
         found = ways.greater(found, ways.lesser(ways.fixed(wishes[person]), told))
-    return found
-
-
-def pushed(bids, later, eager, ways):
-    """The bids with 1 in the places of the eager ones, 0 in those of the others of later."""
-    found = list(bids)
-    for person in later:
-        found[person] = ways.fixed(ONE if person in eager else ZERO)
     return found
 
 

@@ -1,6 +1,6 @@
 """Terms: what they are, what stands in them, and what comes of them."""
 
-from cornerbids.amounts import ZERO, greater, is_less, lesser, over, plus
+from cornerbids.amounts import greater, is_less, lesser, mean_of
 from cornerbids.checks import is_integer, is_number, is_person
 
 MOST_PARTS = 8
@@ -139,10 +139,7 @@ class Numbers:
         return number
 
     def mean(self, weights, numbers):
-        total = ZERO
-        for weight, number in zip(weights, numbers):
-            total = plus(total, (weight * number[0], number[1]))
-        return over(total, (sum(weights), 1))
+        return mean_of(weights, numbers)
 
     def lesser(self, one, other):
         return lesser(one, other)
@@ -154,3 +151,8 @@ class Numbers:
 def told_by(term, bids):
     """The number that a term tells of bids."""
     return worked(term, bids, Numbers())
+
+
+def replaced(bids, lot, bid):
+    """The bids with this one in the places of those of a lot."""
+    return tuple([bid if person in lot else elder for person, elder in enumerate(bids)])

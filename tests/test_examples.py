@@ -3,7 +3,12 @@
 import unittest
 
 from cornerbids.corners import corner
+from cornerbids.drawing import most_drawn
+from cornerbids.lines import line
 from cornerbids.outcomes import outcome, sides
+from cornerbids.plain import weights
+from cornerbids.plays import best_bids
+from cornerbids.rests import is_rest
 from cornerbids.rules import Rule, value
 
 m = Rule(3, ("mean", ((1, ("bid", 0)), (1, ("bid", 1)), (1, ("bid", 2)))))
@@ -24,6 +29,24 @@ class TestExamples(unittest.TestCase):
     def test_e04(self):
         rule = Rule(3, ("mean", ((2, ("bid", 0)), (1, ("bid", 1)), (1, ("bid", 2)))))
         self.assertEqual(outcome(rule, ((1, 5), (9, 10), (9, 10))), (1, 2))
+
+    def test_e05(self):
+        rule = Rule(2, ("least", (("bid", 0), ("bid", 1))))
+        told = (((0, 1), (0, 1)), ((1, 2), (1, 2)), ((1, 1), (1, 2)))
+        self.assertEqual(line(rule, ((0, 1), (1, 2)), 0), told)
+
+    def test_e06(self):
+        self.assertEqual(best_bids(m, w, (0, 1, 2), ()), ((0, 1), (1, 2)))
+
+    def test_e07(self):
+        self.assertIs(is_rest(m, w, w), True)
+
+    def test_e08(self):
+        rule = Rule(1, ("mean", ((1, ("bid", 0)), (1, ("fixed", (1, 1))))))
+        self.assertEqual(weights(rule), (((1, 2),), (1, 2)))
+
+    def test_e09(self):
+        self.assertEqual(most_drawn(m), (2, 9))
 
 
 if __name__ == "__main__":

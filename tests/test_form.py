@@ -25,6 +25,11 @@ INTERFACE = {
     "rules": "Rule value renamed mirrored",
     "corners": "corner corners",
     "outcomes": "outcome outcome_behind is_outcome sides holding pressing",
+    "lines": "line foreseen_line told_at bids_for",
+    "plays": "bids_behind best_play led foreseen best_bids is_best",
+    "rests": "is_rest is_single_rest rest movers moving_lots",
+    "plain": "is_plain is_quiet weights run turn",
+    "drawing": "most_drawn drawing is_drawing",
 }
 
 

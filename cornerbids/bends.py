@@ -1,0 +1,132 @@
+"""Bent lines: tuples of pairs (place, height), and how several of them are put together to one."""
+
+from cornerbids.amounts import ONE, ZERO, greater, is_less, lesser, mean_of, minus, over, plus, times
+from cornerbids.checks import are_numbers
+
+# The line of one's own bid: what it tells is just the place.
+SLOPE = (((0, 1), (0, 1)), ((1, 1), (1, 1)))
+
+
+def flat(number):
+    """The line that tells one number everywhere."""
+    return ((ZERO, number), (ONE, number))
+
+
+def is_line(thing):
+    """Whether a thing, which may be any object, is a line in its shortest form."""
+    if not (isinstance(thing, tuple) and len(thing) >= 2 and all([are_numbers(pair, 2) for pair in thing])):
+        return False
+    if thing[0][0] != ZERO or thing[-1][0] != ONE:
+        return False
+    steps = range(1, len(thing))
+    if not all([is_step(thing[at - 1], thing[at]) for at in steps]):
+        return False
+    return not any([is_straight(thing[at - 2], thing[at - 1], thing[at]) for at in steps if at >= 2])
+
+
+def is_step(one, other):
+    """Whether one pair may stand just ahead of the other in a line."""
+    return is_less(one[0], other[0]) and not is_less(other[1], one[1])
+
+
+def is_straight(one, two, three):
+    """Whether of three pairs with ascending places the second is on the straight way between the others."""
+    short = times(minus(two[0], one[0]), minus(three[1], one[1]))
+    long = times(minus(three[0], one[0]), minus(two[1], one[1]))
+    return short == long
+
+
+def shortened(pairs):
+    """The line through pairs, without those that stand on a straight way."""
+    kept = []
+    for pair in pairs:
+        if len(kept) >= 2 and is_straight(kept[-2], kept[-1], pair):
+            kept.pop()
+        kept.append(pair)
+    return tuple(kept)
+
+
+def height(one, other, place):
+    """The height at a place from that of one pair to that of the other."""
+    if place == one[0] or one[1] == other[1]:
+        return one[1]
+    if place == other[0]:
+        return other[1]
+    part = over(minus(place, one[0]), minus(other[0], one[0]))
+    return plus(one[1], times(part, minus(other[1], one[1])))
+
+
+def heights(bent, places):
+    """The heights of a line at ascending places."""
+    found = []
+    at = 1
+    for place in places:
+        while is_less(bent[at][0], place):
+            at += 1
+        found.append(height(bent[at - 1], bent[at], place))
+    return found
+
+
+def merged(ones, others):
+    """Two ascending rows of numbers as one, with each number once."""
+    found = []
+    at = 0
+    for number in ones:
+        while at < len(others) and is_less(others[at], number):
+            found.append(others[at])
+            at += 1
+        if at < len(others) and others[at] == number:
+            at += 1
+        found.append(number)
+    return found + others[at:]
+
+
+def bending_places(lines):
+    """All places of the pairs of several lines, ascending."""
+    found = []
+    for bent in lines:
+        found = merged(found, [place for place, _ in bent])
+    return found
+
+
+def parting_places(one, other):
+    """All places of the pairs of two lines, and those at which the lines cross, ascending."""
+    places = bending_places([one, other])
+    gaps = [minus(high, low) for high, low in zip(heights(one, places), heights(other, places))]
+    found = [ZERO]
+    for at in range(1, len(places)):
+        # The gap goes straight from one place to the next, so it may pass through zero on the way.
+        if gaps[at - 1][0] * gaps[at][0] < 0:
+            found.append(zero_between((places[at - 1], gaps[at - 1]), (places[at], gaps[at])))
+        found.append(places[at])
+    return found
+
+
+def zero_between(one, other):
+    """The place at which the straight way from one pair to the other, which rises or falls through zero, is at zero."""
+    size = greater(one[1], other[1])
+    depth = lesser(one[1], other[1])
+    part = over((abs(one[1][0]), one[1][1]), minus(size, depth))
+    return plus(one[0], times(part, minus(other[0], one[0])))
+
+
+def put_together(lines, places, way):
+    """The line that tells at each place what the way makes of what the lines tell there, straight between places."""
+    rows = [heights(bent, places) for bent in lines]
+    return shortened([(place, way([row[at] for row in rows])) for at, place in enumerate(places)])
+
+
+class Lines:
+    """The ways of lines."""
+
+    def fixed(self, number):
+        return flat(number)
+
+    def mean(self, weights, lines):
+        return put_together(lines, bending_places(lines), lambda numbers: mean_of(weights, numbers))
+
+    def lesser(self, one, other):
+        return put_together([one, other], parting_places(one, other), lambda pair: lesser(pair[0], pair[1]))
+
+    def greater(self, one, other):
+        return put_together([one, other], parting_places(one, other), lambda pair: greater(pair[0], pair[1]))
