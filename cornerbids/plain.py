@@ -74,7 +74,7 @@ def run(rule, wishes, bids, order):
     moved = 1
     while moved > 0:
         level = loads.level
-        steps = [loads.step(person) for person in order]
+        steps = [loads.turn_of(person) for person in order]
         moved = len([step for step in steps if step[1] != 0])
         # Of wishes that are close together a run is long, but nearly all of its rounds are alike.
         alike = loads.rounds_alike(steps) if loads.level == level else 0
@@ -100,7 +100,7 @@ class Loads:
     def bids(self):
         return tuple([lowest(load, full) for load, full in zip(self.loads, self.full)])
 
-    def step(self, person):
+    def turn_of(self, person):
         """A turn; it is told as (person, change of the load, load behind it, whether the wish was reached)."""
         wanted = self.loads[person] + self.goals[person] - self.level
         load = min(max(wanted, 0), self.full[person])

@@ -48,6 +48,8 @@ WRONG_TERMS = [
     ("between", (1, 2), (1, 3), BID), ("between", (0, 1), (1, 1)), ("between", (0, 1), (1, 1), (BID,)),
     ("between", [0, 1], (1, 1), BID), ("between", (0, 1), (2, 1), BID), ("between", (0, 2), (1, 1), BID),
     ("between", (0, 1), (1, 1), BID, BID), ("least", (BID, ("bid", 9))), ("mean", ((1, ("least", ([],))),)), (), "bid",
+    ("odd", (BID,)), ("median", (BID, BID)), ("Least", (BID,)), ("", (BID,)), (b"least", (BID,)), (None, (BID,)),
+    (("least",), (BID,)), (["least"], (BID,)), (1, (BID,)), ("between ", (0, 1), (1, 1), BID), ("rank", 1, (BID,)),
 ]
 
 
