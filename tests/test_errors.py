@@ -1,5 +1,7 @@
 """0.3 and the interface: the errors."""
 
+import copy
+import pickle
 import unittest
 
 from cornerbids import errors
@@ -41,6 +43,14 @@ class TestErrors(unittest.TestCase):
                 self.assertIs(getattr(error, field), thing)
                 self.assertEqual(list(vars(error)), [field])
                 self.assertIsInstance(str(error), str)
+
+    def test_they_can_be_copied(self):
+        for name, field in FIELDS.items():
+            error = getattr(errors, name)(*([] if field is None else [(1, "a")]))
+            for other in (copy.copy(error), copy.deepcopy(error), pickle.loads(pickle.dumps(error))):
+                self.assertIs(type(other), type(error))
+                self.assertEqual(vars(other), vars(error))
+                self.assertEqual(str(other), str(error))
 
 
 if __name__ == "__main__":

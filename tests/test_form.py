@@ -15,7 +15,7 @@ BUILTINS = set("""len range enumerate zip min max sum abs sorted reversed int st
 METHODS = set("""append clear copy count endswith extend find get index insert isalnum isalpha isdigit islower isspace isupper
                  items join keys ljust lower lstrip partition pop remove replace reverse rfind rjust rpartition rsplit rstrip
                  setdefault split splitlines startswith strip update upper values zfill bit_length""".split())
-DOUBLE = {"__init__", "__eq__"}
+DOUBLE = {"__init__", "__eq__", "__str__"}
 BARRED = set("""register mro elements open input law version_info with_traceback add_note type typing enum Enum Flag Generic
                 Protocol ABC namedtuple""".split())
 INTERFACE = {
