@@ -3,9 +3,6 @@
 from cornerbids.amounts import ONE, ZERO, greater, is_less, lesser, mean_of, minus, over, plus, times
 from cornerbids.checks import are_numbers
 
-# The line of one's own bid: what it tells is just the place.
-SLOPE = (((0, 1), (0, 1)), ((1, 1), (1, 1)))
-
 
 def flat(number):
     """The line that tells one number everywhere."""

@@ -2,8 +2,10 @@
 
 from math import gcd
 
-from cornerbids.errors import NoBids, NoLot, NoNumber, NoPerson, NoPlay, NoSchedule, NoWishes
+from cornerbids.amounts import is_less
+from cornerbids.errors import NoBids, NoLot, NoNumber, NoPeople, NoPerson, NoPlay, NoSchedule, NoStretches, NoWishes
 
+MOST_PEOPLE = 6
 MOST_TURNS = 12
 
 
@@ -24,6 +26,24 @@ def is_number(thing):
 def are_numbers(thing, many):
     """Whether a thing is a tuple of so many numbers."""
     return isinstance(thing, tuple) and len(thing) == many and all([is_number(number) for number in thing])
+
+
+def are_bounds(low, high):
+    return is_number(low) and is_number(high) and not is_less(high, low)
+
+
+def are_stretches(thing, people):
+    """Whether a thing is a tuple of a pair of numbers, the first one at most the second, for each person."""
+    return isinstance(thing, tuple) and len(thing) == people and all([is_stretch(pair) for pair in thing])
+
+
+def is_stretch(thing):
+    return isinstance(thing, tuple) and len(thing) == 2 and are_bounds(thing[0], thing[1])
+
+
+def is_people(thing):
+    """Whether a thing is how many people a rule, or a table, may have."""
+    return is_integer(thing) and 1 <= thing <= MOST_PEOPLE
 
 
 def is_person(thing, people):
@@ -63,6 +83,16 @@ def need_wishes(rule, thing):
 def need_bids(rule, thing):
     if not are_numbers(thing, rule.people):
         raise NoBids()
+
+
+def need_stretches(rule, thing):
+    if not are_stretches(thing, rule.people):
+        raise NoStretches()
+
+
+def need_people(thing):
+    if not is_people(thing):
+        raise NoPeople()
 
 
 def need_person(rule, thing):

@@ -15,11 +15,16 @@ def corner(rule, lot):
 
 def corners(rule):
     """The dict from all lots to their corners."""
-    return {lot: corner_of(rule, lot) for lot in lots_among(list(range(rule.people)))}
+    return {lot: corner_of(rule, lot) for lot in all_lots(rule.people)}
 
 
 def corner_of(rule, lot):
     return told_by(rule.term, replaced((ZERO,) * rule.people, lot, ONE))
+
+
+def all_lots(people):
+    """All lots of so many people, by how many they are, then as tuples."""
+    return lots_among(list(range(people)))
 
 
 def lots_among(persons):

@@ -2,7 +2,7 @@
 
 from cornerbids.amounts import ONE, ZERO, apart, is_less, minus, times
 from cornerbids.checks import are_numbers
-from cornerbids.corners import corner_of, lots_among
+from cornerbids.corners import all_lots, corner_of
 from cornerbids.errors import NotPlain
 from cornerbids.outcomes import outcome_of
 from cornerbids.plain import is_plain
@@ -49,7 +49,7 @@ def draw(part):
 def widest_lot(rule):
     """The first lot that can draw farthest."""
     found = ()
-    for lot in lots_among(list(range(rule.people))):
+    for lot in all_lots(rule.people):
         if is_less(draw(corner_of(rule, found)), draw(corner_of(rule, lot))):
             found = lot
     return found

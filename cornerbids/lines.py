@@ -1,7 +1,7 @@
 """The bent line of one person's bid: what comes of it as the bid goes from 0 to 1."""
 
-from cornerbids.amounts import is_less, middle
-from cornerbids.bends import SLOPE, Lines, flat, height, heights, is_line
+from cornerbids.amounts import ONE, ZERO, is_less, middle
+from cornerbids.bends import Lines, flat, height, heights, is_line
 from cornerbids.checks import is_lot, need_bids, need_number, need_person, need_wishes
 from cornerbids.errors import NoBent, NoLot
 from cornerbids.outcomes import settled
@@ -17,11 +17,17 @@ def line(rule, bids, person):
 
 def joint_line(rule, bids, movers):
     """What the rule tells as the movers' one bid goes from 0 to 1, the others bidding these."""
-    return worked(rule.term, starting_lines(bids, movers), Lines())
+    return line_between(rule, replaced(bids, movers, ZERO), replaced(bids, movers, ONE))
 
 
-def starting_lines(bids, movers):
-    return replaced([flat(bid) for bid in bids], movers, SLOPE)
+def line_between(rule, lows, highs):
+    """What the rule tells as all go straight from their low bid to their high one, at once."""
+    return worked(rule.term, ways_between(lows, highs), Lines())
+
+
+def ways_between(lows, highs):
+    """The line of each person's own bid."""
+    return tuple([((ZERO, low), (ONE, high)) for low, high in zip(lows, highs)])
 
 
 def told_at(bent, number):
@@ -82,4 +88,7 @@ def foreseen_line(rule, wishes, bids, person, later):
     need_person(rule, person)
     if not is_lot(later, rule.people) or person in later:
         raise NoLot()
-    return settled(rule.term, wishes, starting_lines(bids, (person,)), later, Lines())
+    own = ways_between(replaced(bids, (person,), ZERO), replaced(bids, (person,), ONE))
+    lows = replaced(own, later, flat(ZERO))
+    highs = replaced(own, later, flat(ONE))
+    return settled(rule.term, wishes, lows, highs, later, Lines())

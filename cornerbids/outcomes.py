@@ -3,7 +3,7 @@
 from cornerbids.amounts import ONE, ZERO, is_less
 from cornerbids.checks import is_number, need_bids, need_lot, need_wishes
 from cornerbids.corners import corner_of, lots_among
-from cornerbids.terms import Numbers, replaced, worked
+from cornerbids.terms import Numbers, mixed, replaced, worked
 
 
 def outcome(rule, wishes):
@@ -13,9 +13,12 @@ def outcome(rule, wishes):
 
 
 def outcome_of(rule, wishes):
-    everybody = tuple(range(rule.people))
-    # If all are still to bid, what was bid means nothing: the wishes fill the place.
-    return settled(rule.term, wishes, wishes, everybody, Numbers())
+    return settled_between(rule, wishes, (ZERO,) * rule.people, (ONE,) * rule.people)
+
+
+def settled_between(rule, wishes, lows, highs):
+    """The number that comes out if all bid from their low to their high."""
+    return settled(rule.term, wishes, lows, highs, tuple(range(rule.people)), Numbers())
 
 
 def is_outcome(rule, wishes, thing):
@@ -29,20 +32,20 @@ def outcome_behind(rule, wishes, bids, later):
     need_wishes(rule, wishes)
     need_bids(rule, bids)
     need_lot(rule, later)
-    return settled(rule.term, wishes, bids, later, Numbers())
+    return settled(rule.term, wishes, replaced(bids, later, ZERO), replaced(bids, later, ONE), later, Numbers())
 
 
-def settled(term, wishes, bids, later, ways):
-    """What comes out if those of later are still to bid, what the others bid being such as the ways put together.
+def settled(term, wishes, lows, highs, later, ways):
+    """What comes out if those of later are still to bid, from their low to their high, the others bidding their low.
 
-    It is the greatest, over all lots of later, of the least of what the term tells if they bid 1, and the wishes
-    in the lot; the lots of those who wish at least so much are enough.
+    The lows and highs are such as the ways put together. It is the greatest, over all lots of later, of the least of
+    what the term tells if they bid high, and the wishes in the lot; the lots of those who wish at least so much are
+    enough.
     """
-    lowered = replaced(bids, later, ways.fixed(ZERO))
-    found = worked(term, lowered, ways)
+    found = worked(term, lows, ways)
     for person in later:
         eager = [other for other in later if not is_less(wishes[other], wishes[person])]
-        told = worked(term, replaced(lowered, eager, ways.fixed(ONE)), ways)
+        told = worked(term, mixed(lows, highs, eager), ways)
         found = ways.greater(found, ways.lesser(ways.fixed(wishes[person]), told))
     return found
 

@@ -1,18 +1,16 @@
 """Rules: what makes one number of everybody's bids."""
 
 from cornerbids.amounts import ONE, minus
-from cornerbids.checks import are_persons, is_integer, need_bids
+from cornerbids.checks import are_persons, is_people, need_bids
 from cornerbids.errors import BadRule, NoOrder
 from cornerbids.terms import inner_terms, is_term, told_by, with_inner
-
-MOST_PEOPLE = 6
 
 
 class Rule:
     """A term for so many people."""
 
     def __init__(self, people, term):
-        if not (is_integer(people) and 1 <= people <= MOST_PEOPLE):
+        if not is_people(people):
             raise BadRule("people")
         if not is_term(term, people):
             raise BadRule("term")

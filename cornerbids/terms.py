@@ -1,7 +1,7 @@
 """Terms: what they are, what stands in them, and what comes of them."""
 
-from cornerbids.amounts import greater, is_less, lesser, mean_of
-from cornerbids.checks import is_integer, is_number, is_person
+from cornerbids.amounts import greater, lesser, mean_of
+from cornerbids.checks import are_bounds, is_integer, is_number, is_person
 
 MOST_PARTS = 8
 MOST_WEIGHT = 99
@@ -57,10 +57,6 @@ def is_weighted(thing):
 
 def is_weight(thing):
     return is_integer(thing) and 1 <= thing <= MOST_WEIGHT
-
-
-def are_bounds(low, high):
-    return is_number(low) and is_number(high) and not is_less(high, low)
 
 
 def inner_terms(term):
@@ -156,3 +152,8 @@ def told_by(term, bids):
 def replaced(bids, lot, bid):
     """The bids with this one in the places of those of a lot."""
     return tuple([bid if person in lot else elder for person, elder in enumerate(bids)])
+
+
+def mixed(lows, highs, lot):
+    """The high ones of those of a lot, the low ones of all others."""
+    return tuple([highs[person] if person in lot else low for person, low in enumerate(lows)])

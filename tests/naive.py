@@ -67,3 +67,32 @@ def is_behind(rule, wishes, bids, later, number):
         more[person] = Fraction(int(wanted[person] > number))
         least[person] = Fraction(int(wanted[person] >= number))
     return told(rule.term, more) <= number <= told(rule.term, least)
+
+
+def within(rule, wishes, stretches):
+    """outcome_within: as the first fact, each person of a lot bidding high, all others low."""
+    wanted = fractions_of(wishes)
+    found = []
+    for lot in all_lots(rule.people):
+        given = [Fraction(*pair[person in lot]) for person, pair in enumerate(stretches)]
+        found.append(min([told(rule.term, given)] + [wanted[person] for person in lot]))
+    return max(found)
+
+
+def is_within(rule, wishes, stretches, number):
+    """outcome_within as 9.1 itself tells it."""
+    wanted = fractions_of(wishes)
+    more = [Fraction(*pair[wish > number]) for pair, wish in zip(stretches, wanted)]
+    least = [Fraction(*pair[wish >= number]) for pair, wish in zip(stretches, wanted)]
+    return told(rule.term, more) <= number <= told(rule.term, least)
+
+
+def words_in(term):
+    """The words of a term and of all terms in it."""
+    word = term[0]
+    if word in ("bid", "fixed"):
+        return {word}
+    if word == "between":
+        return {word} | words_in(term[3])
+    inner = [part[1] for part in term[1]] if word == "mean" else term[-1]
+    return {word}.union(*(words_in(part) for part in inner))

@@ -2,17 +2,23 @@
 
 import unittest
 
-from cornerbids.corners import corner
+from cornerbids.comparing import alike
+from cornerbids.corners import corner, corners
 from cornerbids.drawing import most_drawn
+from cornerbids.honest import best_for, honest_at
 from cornerbids.lines import line
 from cornerbids.outcomes import outcome, sides
 from cornerbids.plain import weights
 from cornerbids.plays import best_bids
 from cornerbids.rests import is_rest
 from cornerbids.rules import Rule, value
+from cornerbids.stretches import outcome_within
+from cornerbids.tables import weights_of
 
 m = Rule(3, ("mean", ((1, ("bid", 0)), (1, ("bid", 1)), (1, ("bid", 2)))))
 w = ((0, 1), (1, 2), (1, 1))
+n = Rule(2, ("mean", ((1, ("bid", 0)), (1, ("bid", 1)))))
+o = ((0, 1), (0, 1))
 
 
 class TestExamples(unittest.TestCase):
@@ -47,6 +53,19 @@ class TestExamples(unittest.TestCase):
 
     def test_e09(self):
         self.assertEqual(most_drawn(m), (2, 9))
+
+    def test_e10(self):
+        self.assertIs(alike(n, Rule(2, ("ranked", 2, (("bid", 0), ("bid", 1), ("fixed", (1, 2)))))), True)
+
+    def test_e11(self):
+        self.assertEqual(best_for(n, o, 0, (1, 4)), ((1, 2), (1, 2)))
+        self.assertIs(honest_at(n, o, 0), False)
+
+    def test_e12(self):
+        self.assertEqual(outcome_within(n, ((0, 1), (1, 1)), (((1, 4), (1, 1)), ((0, 1), (1, 1)))), (5, 8))
+
+    def test_e13(self):
+        self.assertEqual(weights_of(2, corners(n)), (((1, 2), (1, 2)), (0, 1)))
 
 
 if __name__ == "__main__":

@@ -30,6 +30,10 @@ INTERFACE = {
     "rests": "is_rest is_single_rest rest movers moving_lots",
     "plain": "is_plain is_quiet weights run turn",
     "drawing": "most_drawn drawing is_drawing",
+    "comparing": "alike never_less parting cousin",
+    "honest": "best_for honest_at is_lie lie",
+    "stretches": "around outcome_within rest_within is_rest_within",
+    "tables": "is_table is_bar_to_weights is_bar_to_counts rule_of weights_of bar_to_counts bar_to_weights by_counts idle",
 }
 
 

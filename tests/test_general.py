@@ -4,20 +4,27 @@ import copy
 import sys
 import unittest
 
+from cornerbids.comparing import alike, cousin, never_less, parting
 from cornerbids.corners import corner, corners
 from cornerbids.drawing import drawing, is_drawing, most_drawn
 from cornerbids.errors import BidError
+from cornerbids.honest import best_for, honest_at, is_lie, lie
 from cornerbids.lines import bids_for, foreseen_line, line, told_at
 from cornerbids.outcomes import holding, is_outcome, outcome, outcome_behind, pressing, sides
 from cornerbids.plain import is_plain, is_quiet, run, turn, weights
 from cornerbids.plays import best_bids, best_play, bids_behind, foreseen, is_best, led
 from cornerbids.rests import is_rest, is_single_rest, movers, moving_lots, rest
 from cornerbids.rules import Rule, mirrored, renamed, value
+from cornerbids.stretches import around, is_rest_within, outcome_within, rest_within
+from cornerbids.tables import (bar_to_counts, bar_to_weights, by_counts, idle, is_bar_to_counts, is_bar_to_weights, is_table,
+                               rule_of, weights_of)
 from tests.things import MEAN2, ODD, deep_term, unchecked
 
 WISHES = ((1, 3), (2, 3))
 BIDS = ((0, 1), (1, 1))
 BENT = (((0, 1), (0, 1)), ((1, 2), (1, 2)), ((1, 1), (1, 2)))
+STRETCHES = (((1, 4), (1, 2)), ((0, 1), (1, 1)))
+TABLE = {(): (0, 1), (0,): (1, 3), (1,): (1, 2), (0, 1): (1, 1)}
 
 
 def plan(play):
@@ -34,6 +41,15 @@ CALLS = [
     (is_rest, (WISHES, BIDS)), (is_single_rest, (WISHES, BIDS)), (rest, (WISHES,)), (movers, (WISHES, BIDS)),
     (moving_lots, (WISHES, BIDS)), (is_plain, ()), (is_quiet, (WISHES, BIDS)), (weights, ()), (run, (WISHES, BIDS, (0, 1))),
     (turn, (WISHES, BIDS, 0)), (most_drawn, ()), (drawing, ()), (is_drawing, (BIDS,)),
+    (cousin, ()), (best_for, (BIDS, 0, (1, 2))), (honest_at, (BIDS, 0)), (lie, (BIDS, 0)), (is_lie, (BIDS, 0, ((1, 2), (0, 1)))),
+    (outcome_within, (WISHES, STRETCHES)), (rest_within, (WISHES, STRETCHES)), (is_rest_within, (WISHES, STRETCHES, BIDS)),
+]
+# Those with two rules, and those without any.
+CALLS_OF_TWO = [alike, parting, never_less]
+CALLS_OF_NONE = [
+    (told_at, (BENT, (1, 4))), (bids_for, (BENT, (1, 4))), (around, (WISHES, (1, 4))), (is_table, (2, TABLE)), (rule_of, (2, TABLE)),
+    (weights_of, (2, TABLE)), (bar_to_weights, (2, TABLE)), (is_bar_to_weights, (2, TABLE, (0, (), (1,)))), (by_counts, (2, TABLE)),
+    (bar_to_counts, (2, TABLE)), (is_bar_to_counts, (2, TABLE, ((0,), (1,)))), (idle, (2, TABLE)),
 ]
 NEED_PLAIN = (is_quiet, weights, run, turn, most_drawn, drawing, is_drawing)
 
@@ -54,8 +70,12 @@ class TestAllFunctions(unittest.TestCase):
             self.assertEqual(first, again)
             self.assertEqual(type(first), type(again))
             self.assertEqual(((MEAN2.people, MEAN2.term), given), kept, function)
-        for function in (told_at, bids_for):
-            self.assertEqual(function(BENT, (1, 4)), function(BENT, (1, 4)))
+        for function in CALLS_OF_TWO:
+            self.assertEqual(function(MEAN2, cousin(MEAN2)), function(MEAN2, cousin(MEAN2)))
+        for function, given in CALLS_OF_NONE:
+            kept = copy.deepcopy(given)
+            self.assertEqual(function(*given), function(*copy.deepcopy(given)))
+            self.assertEqual(given, kept, function)
 
     def test_rules_of_sixty_deep(self):
         limit = sys.getrecursionlimit()
@@ -65,19 +85,21 @@ class TestAllFunctions(unittest.TestCase):
             for function, given in CALLS:
                 made = deep_mean() if function in NEED_PLAIN else deep_term(60)
                 function(unchecked(2, made), *given)
+            for function in CALLS_OF_TWO:
+                function(unchecked(2, deep_term(60)), unchecked(2, deep_mean()))
             self.assertTrue(unchecked(2, deep_term(60)) == unchecked(2, deep_term(60)))
         finally:
             sys.setrecursionlimit(limit)
 
     def test_any_object_in_the_place_of_an_argument(self):
-        for function, given in CALLS:
+        for function, given in [(function, (MEAN2, *given)) for function, given in CALLS] + CALLS_OF_NONE:
             for at in range(len(given)):
-                if given[at] is plan:
+                if given[at] in (plan, MEAN2):
                     continue
                 # (1, 0) is no number, but an order and a schedule of two people.
                 for thing in [one for one in ODD if one != (1, 0)]:
                     try:
-                        told = function(MEAN2, *given[:at], thing, *given[at + 1:])
+                        told = function(*given[:at], thing, *given[at + 1:])
                     except BidError:
                         self.assertFalse(function.__name__.startswith("is_") and at == len(given) - 1, function)
                     else:
@@ -90,9 +112,9 @@ class TestAllFunctions(unittest.TestCase):
         self.assertEqual(corner(MEAN2, ()), (0, 1))
 
     def test_judges_return_flags(self):
-        for function, given in CALLS:
+        for function, given in [(function, (MEAN2, *given)) for function, given in CALLS] + CALLS_OF_NONE:
             if function.__name__.startswith("is_"):
-                self.assertIs(type(function(MEAN2, *given)), bool)
+                self.assertIs(type(function(*given)), bool)
 
 
 if __name__ == "__main__":

@@ -2,6 +2,7 @@
 
 import random
 from fractions import Fraction
+from itertools import combinations
 
 from cornerbids.errors import BadRule, BidError, NoBids
 from cornerbids.rules import Rule
@@ -108,4 +109,61 @@ def spoiled(right):
             found.extend((*right[:at], wrong, *right[at + 1:]) for wrong in spoiled(part))
     elif isinstance(right, int):
         found.append(bool(right))
+    return found
+
+
+def table(rng, people, fine=6):
+    """A corner table by chance."""
+    found = {}
+    for many in range(people + 1):
+        for lot in combinations(range(people), many):
+            numbers_of = [found[lot[:at] + lot[at + 1:]] for at in range(many)]
+            # Mostly no more than a lot with one person less has, so that some people are idle.
+            if not numbers_of or rng.random() < 0.4:
+                numbers_of.append(number(rng, fine))
+            found[lot] = max(numbers_of, key=lambda one: Fraction(*one))
+    return found
+
+
+def shuffled(rng, given):
+    """The same dict with its keys in another order."""
+    keys = list(given)
+    rng.shuffle(keys)
+    return {key: given[key] for key in keys}
+
+
+def stretches(rng, people, fine=6):
+    return tuple(tuple(sorted(numbers(rng, 2, fine), key=lambda one: Fraction(*one))) for _ in range(people))
+
+
+def spoiled_stretches(right):
+    """Right stretches with something odd in the place of them, of one pair or one number, or with one upside down."""
+    found = spoiled(right) + [right[:-1], (*right, right[0])]
+    for at, (low, high) in enumerate(right):
+        if low != high:
+            found.append((*right[:at], (high, low), *right[at + 1:]))
+    return found
+
+
+def spoiled_table(right):
+    """A right table with a lot lacking, strange or without a number, and odd things in the place of it."""
+    found = ODD + [list(right.items()), list(right), tuple(right), {}]
+    for lot in right:
+        found.append({key: right[key] for key in right if key != lot})
+        found.extend({**right, lot: wrong} for wrong in ODD)
+        for strange in (str(list(lot)), (*lot, 6), (*lot, None), (*lot, "a"), (lot,), -1, None, b"", NoBids):
+            found.append({strange if key == lot else key: right[key] for key in right})
+    for strange in ((6,), (-1,), (0, 0), (1, 0), 0, "", None, (None,), (((0,),),), NoBids, NoBids(), b"ab", range(2), 10 ** 199):
+        found.append({**right, strange: (1, 1)})
+    return found
+
+
+def lowered_tables(right):
+    """The tables in which one lot has less than a lot with one person less has."""
+    found = []
+    for lot in right:
+        for at in range(len(lot)):
+            low = Fraction(*right[lot[:at] + lot[at + 1:]])
+            if low > 0:
+                found.append({**right, lot: pair(low * Fraction(9, 10))})
     return found
