@@ -31,6 +31,10 @@ def foreseen(rule, wishes, schedule, play):
     need_wishes(rule, wishes)
     need_schedule(rule, schedule)
     need_play(schedule, play)
+    return foreseen_behind(rule, wishes, schedule, play)
+
+
+def foreseen_behind(rule, wishes, schedule, play):
     return outcome_behind(rule, wishes, latest_bids(rule, schedule, play), lot_of(schedule[len(play):]))
 
 

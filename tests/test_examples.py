@@ -10,10 +10,12 @@ from cornerbids.lines import line
 from cornerbids.outcomes import outcome, sides
 from cornerbids.plain import weights
 from cornerbids.plays import best_bids
+from cornerbids.ranges import wish_bounds
 from cornerbids.rests import is_rest
 from cornerbids.rules import Rule, value
 from cornerbids.stretches import outcome_within
 from cornerbids.tables import weights_of
+from cornerbids.texts import rule_text
 
 m = Rule(3, ("mean", ((1, ("bid", 0)), (1, ("bid", 1)), (1, ("bid", 2)))))
 w = ((0, 1), (1, 2), (1, 1))
@@ -66,6 +68,12 @@ class TestExamples(unittest.TestCase):
 
     def test_e13(self):
         self.assertEqual(weights_of(2, corners(n)), (((1, 2), (1, 2)), (0, 1)))
+
+    def test_e14(self):
+        self.assertEqual(wish_bounds(n, 0, (1, 4)), ((0, 1), (1, 4)))
+
+    def test_e15(self):
+        self.assertEqual(rule_text(m), "3 mean(1*b0, 1*b1, 1*b2)")
 
 
 if __name__ == "__main__":

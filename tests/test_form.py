@@ -34,6 +34,15 @@ INTERFACE = {
     "honest": "best_for honest_at is_lie lie",
     "stretches": "around outcome_within rest_within is_rest_within",
     "tables": "is_table is_bar_to_weights is_bar_to_counts rule_of weights_of bar_to_counts bar_to_weights by_counts idle",
+    "groups": "composed groups_first groups_parting",
+    "ranges": "range_of wishes_with wish_bounds",
+    "sittings": "Sitting",
+    "texts": "rule_text",
+    "reading": "read_rule",
+}
+METHODS_OF = {
+    ("rules", "Rule"): "__init__ __eq__",
+    ("sittings", "Sitting"): "__init__ speaker bid play bids foreseen best told back copy trying",
 }
 
 
@@ -156,7 +165,7 @@ class TestForm(unittest.TestCase):
         self.assertFalse({method for method in own if hasattr(str, method) and not method.startswith("__")})
 
     def test_statements_and_expressions(self):
-        barred = (ast.GeneratorExp, ast.Yield, ast.YieldFrom, ast.Global, ast.Nonlocal, ast.Try, ast.With, ast.Match,
+        barred = (ast.GeneratorExp, ast.Yield, ast.YieldFrom, ast.Global, ast.Nonlocal, ast.With, ast.Match,
                   ast.Div, ast.AsyncFunctionDef, ast.Await, ast.Set, ast.NamedExpr, ast.Delete, ast.JoinedStr)
         for name, tree in TREES.items():
             for node in ast.walk(tree):
@@ -167,6 +176,15 @@ class TestForm(unittest.TestCase):
                     self.assertNotIn("\\", node.value)
                 if isinstance(node, ast.Compare) and isinstance(node.ops[0], (ast.Is, ast.IsNot)):
                     self.assertIsInstance(node.comparators[0], ast.Constant)
+
+    def test_a_finally_only_puts_a_name_back(self):
+        for name, tree in TREES.items():
+            for node in ast.walk(tree):
+                if isinstance(node, ast.Try):
+                    self.assertFalse(node.handlers or node.orelse, name)
+                    for row in node.finalbody:
+                        self.assertIsInstance(row, ast.Assign)
+                        self.assertIsInstance(row.value, ast.Name)
 
     def test_sets_are_sorted_or_counted_at_once(self):
         for name, tree in TREES.items():
@@ -193,6 +211,12 @@ class TestInterface(unittest.TestCase):
         for module, names in INTERFACE.items():
             for name in names.split():
                 self.assertIn(name, defined(TREES[module + ".py"]), module)
+
+    def test_each_method_is_defined_in_its_class(self):
+        for (module, name), methods in METHODS_OF.items():
+            found = [node for node in TREES[module + ".py"].body if isinstance(node, ast.ClassDef) and node.name == name]
+            own = {node.name for node in found[0].body if isinstance(node, ast.FunctionDef)}
+            self.assertLessEqual(set(methods.split()), own, name)
 
 
 if __name__ == "__main__":

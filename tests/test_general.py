@@ -8,16 +8,21 @@ from cornerbids.comparing import alike, cousin, never_less, parting
 from cornerbids.corners import corner, corners
 from cornerbids.drawing import drawing, is_drawing, most_drawn
 from cornerbids.errors import BidError
+from cornerbids.groups import composed, groups_first, groups_parting
 from cornerbids.honest import best_for, honest_at, is_lie, lie
 from cornerbids.lines import bids_for, foreseen_line, line, told_at
 from cornerbids.outcomes import holding, is_outcome, outcome, outcome_behind, pressing, sides
 from cornerbids.plain import is_plain, is_quiet, run, turn, weights
 from cornerbids.plays import best_bids, best_play, bids_behind, foreseen, is_best, led
+from cornerbids.ranges import range_of, wish_bounds, wishes_with
+from cornerbids.reading import read_rule
 from cornerbids.rests import is_rest, is_single_rest, movers, moving_lots, rest
 from cornerbids.rules import Rule, mirrored, renamed, value
+from cornerbids.sittings import Sitting
 from cornerbids.stretches import around, is_rest_within, outcome_within, rest_within
 from cornerbids.tables import (bar_to_counts, bar_to_weights, by_counts, idle, is_bar_to_counts, is_bar_to_weights, is_table,
                                rule_of, weights_of)
+from cornerbids.texts import rule_text
 from tests.things import MEAN2, ODD, deep_term, unchecked
 
 WISHES = ((1, 3), (2, 3))
@@ -43,6 +48,7 @@ CALLS = [
     (turn, (WISHES, BIDS, 0)), (most_drawn, ()), (drawing, ()), (is_drawing, (BIDS,)),
     (cousin, ()), (best_for, (BIDS, 0, (1, 2))), (honest_at, (BIDS, 0)), (lie, (BIDS, 0)), (is_lie, (BIDS, 0, ((1, 2), (0, 1)))),
     (outcome_within, (WISHES, STRETCHES)), (rest_within, (WISHES, STRETCHES)), (is_rest_within, (WISHES, STRETCHES, BIDS)),
+    (range_of, (STRETCHES,)), (wishes_with, (STRETCHES, (1, 2))), (wish_bounds, (0, (1, 2))), (rule_text, ()),
 ]
 # Those with two rules, and those without any.
 CALLS_OF_TWO = [alike, parting, never_less]
@@ -50,6 +56,7 @@ CALLS_OF_NONE = [
     (told_at, (BENT, (1, 4))), (bids_for, (BENT, (1, 4))), (around, (WISHES, (1, 4))), (is_table, (2, TABLE)), (rule_of, (2, TABLE)),
     (weights_of, (2, TABLE)), (bar_to_weights, (2, TABLE)), (is_bar_to_weights, (2, TABLE, (0, (), (1,)))), (by_counts, (2, TABLE)),
     (bar_to_counts, (2, TABLE)), (is_bar_to_counts, (2, TABLE, ((0,), (1,)))), (idle, (2, TABLE)),
+    (read_rule, ("2 least(b0, 1/2)",)),
 ]
 NEED_PLAIN = (is_quiet, weights, run, turn, most_drawn, drawing, is_drawing)
 
@@ -85,8 +92,16 @@ class TestAllFunctions(unittest.TestCase):
             for function, given in CALLS:
                 made = deep_mean() if function in NEED_PLAIN else deep_term(60)
                 function(unchecked(2, made), *given)
+            deep, mean = unchecked(2, deep_term(60)), unchecked(2, deep_mean())
             for function in CALLS_OF_TWO:
-                function(unchecked(2, deep_term(60)), unchecked(2, deep_mean()))
+                function(deep, mean)
+            composed(deep, (mean, deep))
+            groups_first(mean, (mean, deep), WISHES * 2)
+            groups_parting(deep, (mean, deep))
+            sitting = Sitting(deep, WISHES, (0, 1))
+            sitting.bid(sitting.best()[0])
+            sitting.bid(sitting.foreseen())
+            sitting.told()
             self.assertTrue(unchecked(2, deep_term(60)) == unchecked(2, deep_term(60)))
         finally:
             sys.setrecursionlimit(limit)
