@@ -1,6 +1,6 @@
 """Fractions: pairs (top, bottom) of integers in lowest terms, bottom from 1 on."""
 
-from math import gcd
+from math import gcd, lcm
 
 ZERO = (0, 1)
 ONE = (1, 1)
@@ -57,3 +57,16 @@ def mean_of(weights, numbers):
 def apart(one, other):
     """How far two fractions are from one another."""
     return minus(greater(one, other), lesser(one, other))
+
+
+def ascending(fractions):
+    """The unlike ones of fractions, by their worth."""
+    bottom = 1
+    for fraction in fractions:
+        bottom = lcm(bottom, fraction[1])
+    return [lowest(parts, bottom) for parts in sorted({scaled(fraction, bottom) for fraction in fractions})]
+
+
+def scaled(fraction, bottom):
+    """How many parts of 1 / bottom a fraction is."""
+    return fraction[0] * (bottom // fraction[1])

@@ -2,7 +2,7 @@
 
 from math import lcm
 
-from cornerbids.amounts import lowest, minus, times
+from cornerbids.amounts import lowest, minus, scaled, times
 from cornerbids.checks import are_numbers, is_schedule, need_bids, need_person, need_wishes
 from cornerbids.corners import corner_of
 from cornerbids.errors import NoOrder, NotPlain
@@ -137,8 +137,3 @@ class Loads:
         """So many rounds like that of these steps at once."""
         for person, pace in enumerate(self.paces(steps)):
             self.loads[person] += pace * rounds
-
-
-def scaled(fraction, bottom):
-    """How many parts of 1 / bottom a fraction is."""
-    return fraction[0] * (bottom // fraction[1])

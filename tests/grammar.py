@@ -14,7 +14,7 @@ NUMBER = re.compile(r"((0|[1-9][0-9]{0,6})(/(0|[1-9][0-9]{0,6})?)?)?")
 def is_number_text(text):
     if text in ("0", "1"):
         return True
-    if not re.fullmatch(r"[0-9]+/[0-9]+", text) or text.endswith("/0"):
+    if not re.fullmatch(r"[0-9]+/[0-9]+", text) or set(text.split("/")[1]) == {"0"}:
         return False
     top, bottom = text.split("/")
     told = Fraction(int(top), int(bottom))

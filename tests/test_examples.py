@@ -2,11 +2,14 @@
 
 import unittest
 
+from cornerbids.chances import likely_at_least
 from cornerbids.comparing import alike
 from cornerbids.corners import corner, corners
 from cornerbids.drawing import most_drawn
+from cornerbids.holders import least_lots, swings
 from cornerbids.honest import best_for, honest_at
 from cornerbids.lines import line
+from cornerbids.logs import may_stand
 from cornerbids.outcomes import outcome, sides
 from cornerbids.plain import weights
 from cornerbids.plays import best_bids
@@ -74,6 +77,16 @@ class TestExamples(unittest.TestCase):
 
     def test_e15(self):
         self.assertEqual(rule_text(m), "3 mean(1*b0, 1*b1, 1*b2)")
+
+    def test_e16(self):
+        self.assertEqual(likely_at_least(n, (((0, 1), (1, 1)), ((0, 1), (1, 1))), (1, 2)), (3, 4))
+
+    def test_e17(self):
+        self.assertEqual(least_lots(m, (1, 2)), [(0, 1), (0, 2), (1, 2)])
+        self.assertEqual(swings(m, (1, 2)), (2, 2, 2))
+
+    def test_e18(self):
+        self.assertEqual(may_stand(((n, (1, 4)),), 0), [0, 1])
 
 
 if __name__ == "__main__":

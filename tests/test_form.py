@@ -39,10 +39,15 @@ INTERFACE = {
     "sittings": "Sitting",
     "texts": "rule_text",
     "reading": "read_rule",
+    "desks": "Desk",
+    "chances": "chances mean_outcome likely_own likely_at_least",
+    "holders": "least_lots least_blocks levels vetoes swings alone",
+    "logs": "fits fitting places may_stand many_places",
 }
 METHODS_OF = {
     ("rules", "Rule"): "__init__ __eq__",
     ("sittings", "Sitting"): "__init__ speaker bid play bids foreseen best told back copy trying",
+    ("desks", "Desk"): "__init__ tell undoable",
 }
 
 

@@ -4,13 +4,17 @@ import copy
 import sys
 import unittest
 
+from cornerbids.chances import chances, likely_at_least, likely_own, mean_outcome
 from cornerbids.comparing import alike, cousin, never_less, parting
 from cornerbids.corners import corner, corners
+from cornerbids.desks import Desk
 from cornerbids.drawing import drawing, is_drawing, most_drawn
 from cornerbids.errors import BidError
 from cornerbids.groups import composed, groups_first, groups_parting
+from cornerbids.holders import alone, least_blocks, least_lots, levels, swings, vetoes
 from cornerbids.honest import best_for, honest_at, is_lie, lie
 from cornerbids.lines import bids_for, foreseen_line, line, told_at
+from cornerbids.logs import fits, fitting, many_places, may_stand, places
 from cornerbids.outcomes import holding, is_outcome, outcome, outcome_behind, pressing, sides
 from cornerbids.plain import is_plain, is_quiet, run, turn, weights
 from cornerbids.plays import best_bids, best_play, bids_behind, foreseen, is_best, led
@@ -30,6 +34,8 @@ BIDS = ((0, 1), (1, 1))
 BENT = (((0, 1), (0, 1)), ((1, 2), (1, 2)), ((1, 1), (1, 2)))
 STRETCHES = (((1, 4), (1, 2)), ((0, 1), (1, 1)))
 TABLE = {(): (0, 1), (0,): (1, 3), (1,): (1, 2), (0, 1): (1, 1)}
+CHOICES = (((0, 1), (1, 2)), ((1, 1), (1, 1), (1, 3)))
+LOG = ((MEAN2, (1, 2)), (Rule(2, ("bid", 0)), (1, 3)))
 
 
 def plan(play):
@@ -49,6 +55,8 @@ CALLS = [
     (cousin, ()), (best_for, (BIDS, 0, (1, 2))), (honest_at, (BIDS, 0)), (lie, (BIDS, 0)), (is_lie, (BIDS, 0, ((1, 2), (0, 1)))),
     (outcome_within, (WISHES, STRETCHES)), (rest_within, (WISHES, STRETCHES)), (is_rest_within, (WISHES, STRETCHES, BIDS)),
     (range_of, (STRETCHES,)), (wishes_with, (STRETCHES, (1, 2))), (wish_bounds, (0, (1, 2))), (rule_text, ()),
+    (chances, (CHOICES,)), (mean_outcome, (CHOICES,)), (likely_own, (CHOICES, 0)), (likely_at_least, (CHOICES, (1, 2))),
+    (least_lots, ((1, 2),)), (least_blocks, ((1, 2),)), (vetoes, ((1, 2),)), (swings, ((1, 2),)), (alone, ((1, 2),)), (levels, ()),
 ]
 # Those with two rules, and those without any.
 CALLS_OF_TWO = [alike, parting, never_less]
@@ -56,7 +64,8 @@ CALLS_OF_NONE = [
     (told_at, (BENT, (1, 4))), (bids_for, (BENT, (1, 4))), (around, (WISHES, (1, 4))), (is_table, (2, TABLE)), (rule_of, (2, TABLE)),
     (weights_of, (2, TABLE)), (bar_to_weights, (2, TABLE)), (is_bar_to_weights, (2, TABLE, (0, (), (1,)))), (by_counts, (2, TABLE)),
     (bar_to_counts, (2, TABLE)), (is_bar_to_counts, (2, TABLE, ((0,), (1,)))), (idle, (2, TABLE)),
-    (read_rule, ("2 least(b0, 1/2)",)),
+    (read_rule, ("2 least(b0, 1/2)",)), (fits, (LOG, WISHES)), (fitting, (LOG,)), (places, (LOG, WISHES)), (may_stand, (LOG, 1)),
+    (many_places, (LOG,)), (lambda line: Desk().tell(line), ("rule a 1 b0",)),
 ]
 NEED_PLAIN = (is_quiet, weights, run, turn, most_drawn, drawing, is_drawing)
 
@@ -102,6 +111,7 @@ class TestAllFunctions(unittest.TestCase):
             sitting.bid(sitting.best()[0])
             sitting.bid(sitting.foreseen())
             sitting.told()
+            fitting(((deep, outcome(deep, WISHES)), (mean, outcome(mean, WISHES))))
             self.assertTrue(unchecked(2, deep_term(60)) == unchecked(2, deep_term(60)))
         finally:
             sys.setrecursionlimit(limit)
