@@ -48,10 +48,9 @@ def middle(low, high, number):
 
 def mean_of(weights, numbers):
     """The sum of numbers times their weights, divided by the sum of the weights."""
-    total = ZERO
-    for weight, number in zip(weights, numbers):
-        total = plus(total, (weight * number[0], number[1]))
-    return over(total, (sum(weights), 1))
+    bottom = common_bottom(numbers)
+    total = sum([weight * scaled(number, bottom) for weight, number in zip(weights, numbers)])
+    return lowest(total, bottom * sum(weights))
 
 
 def apart(one, other):
@@ -61,10 +60,16 @@ def apart(one, other):
 
 def ascending(fractions):
     """The unlike ones of fractions, by their worth."""
+    bottom = common_bottom(fractions)
+    return [lowest(parts, bottom) for parts in sorted({scaled(fraction, bottom) for fraction in fractions})]
+
+
+def common_bottom(fractions):
+    """The least bottom over which all of these fractions can be told."""
     bottom = 1
     for fraction in fractions:
         bottom = lcm(bottom, fraction[1])
-    return [lowest(parts, bottom) for parts in sorted({scaled(fraction, bottom) for fraction in fractions})]
+    return bottom
 
 
 def scaled(fraction, bottom):

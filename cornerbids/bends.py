@@ -1,6 +1,6 @@
 """Bent lines: tuples of pairs (place, height), and how several of them are put together to one."""
 
-from cornerbids.amounts import ONE, ZERO, greater, is_less, lesser, mean_of, minus, over, plus, times
+from cornerbids.amounts import ONE, ZERO, apart, greater, is_less, lesser, mean_of, minus, over, plus, times
 from cornerbids.checks import are_numbers
 
 
@@ -28,6 +28,8 @@ def is_step(one, other):
 
 def is_straight(one, two, three):
     """Whether of three pairs with ascending places the second is on the straight way between the others."""
+    if one[1] == two[1] or two[1] == three[1]:
+        return one[1] == three[1]
     short = times(minus(two[0], one[0]), minus(three[1], one[1]))
     long = times(minus(three[0], one[0]), minus(two[1], one[1]))
     return short == long
@@ -89,22 +91,28 @@ def bending_places(lines):
 def parting_places(one, other):
     """All places of the pairs of two lines, and those at which the lines cross, ascending."""
     places = bending_places([one, other])
-    gaps = [minus(high, low) for high, low in zip(heights(one, places), heights(other, places))]
+    rows = list(zip(places, heights(one, places), heights(other, places)))
     found = [ZERO]
-    for at in range(1, len(places)):
-        # The gap goes straight from one place to the next, so it may pass through zero on the way.
-        if gaps[at - 1][0] * gaps[at][0] < 0:
-            found.append(zero_between((places[at - 1], gaps[at - 1]), (places[at], gaps[at])))
+    for at in range(1, len(rows)):
+        if do_cross(rows[at - 1], rows[at]):
+            found.append(crossing_place(rows[at - 1], rows[at]))
         found.append(places[at])
     return found
 
 
-def zero_between(one, other):
-    """The place at which the straight way from one pair to the other, which rises or falls through zero, is at zero."""
-    size = greater(one[1], other[1])
-    depth = lesser(one[1], other[1])
-    part = over((abs(one[1][0]), one[1][1]), minus(size, depth))
-    return plus(one[0], times(part, minus(other[0], one[0])))
+def do_cross(start, end):
+    """Whether two straight ways cross between a place and the next one, a row being a place and both heights there."""
+    if is_less(start[1], start[2]):
+        return is_less(end[2], end[1])
+    return is_less(start[2], start[1]) and is_less(end[1], end[2])
+
+
+def crossing_place(start, end):
+    """The place at which two straight ways cross, which are apart on either side of it."""
+    first = apart(start[1], start[2])
+    last = apart(end[1], end[2])
+    part = over(first, plus(first, last))
+    return plus(start[0], times(part, minus(end[0], start[0])))
 
 
 def put_together(lines, places, way):

@@ -6,7 +6,7 @@ from cornerbids.corners import all_lots
 from cornerbids.errors import NoWishes, TooMany
 from cornerbids.outcomes import outcome_of
 from cornerbids.rules import built, renamed_term
-from cornerbids.terms import inner_terms, replaced, told_by, with_inner
+from cornerbids.terms import replaced, told_by, with_terms
 
 
 def composed(outer, inners):
@@ -34,13 +34,6 @@ def parted(inners, row):
         found.append(row[start:start + inner.people])
         start += inner.people
     return found
-
-
-def with_terms(term, own):
-    """The term with the own term of each person in the places of the bids."""
-    if term[0] == "bid":
-        return own[term[1]]
-    return with_inner(term, tuple([with_terms(inner, own) for inner in inner_terms(term)]))
 
 
 def groups_first(outer, inners, wishes):

@@ -1,8 +1,6 @@
 """Plain rules: means of bids and fixed numbers, and turns without foresight."""
 
-from math import lcm
-
-from cornerbids.amounts import lowest, minus, scaled, times
+from cornerbids.amounts import common_bottom, lowest, minus, scaled, times
 from cornerbids.checks import are_numbers, is_schedule, need_bids, need_person, need_wishes
 from cornerbids.corners import corner_of
 from cornerbids.errors import NoOrder, NotPlain
@@ -89,9 +87,7 @@ class Loads:
     def __init__(self, rule, wishes, bids):
         shares, last = shares_of(rule)
         added = [times(share, bid) for share, bid in zip(shares, bids)]
-        bottom = 1
-        for fraction in (last, *shares, *added, *wishes):
-            bottom = lcm(bottom, fraction[1])
+        bottom = common_bottom((last, *shares, *added, *wishes))
         self.full = [scaled(share, bottom) for share in shares]
         self.goals = [scaled(wish, bottom) for wish in wishes]
         self.loads = [scaled(part, bottom) for part in added]

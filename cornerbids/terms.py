@@ -83,6 +83,13 @@ def with_inner(term, inner):
     return (*term[:-1], inner)
 
 
+def with_terms(term, own):
+    """The term with the own term of each person in the places of the bids."""
+    if term[0] == "bid":
+        return own[term[1]]
+    return with_inner(term, tuple([with_terms(inner, own) for inner in inner_terms(term)]))
+
+
 def worked(term, bids, ways):
     """What comes of a term, a bid being whatever the ways can put together: numbers, or lines."""
     word = term[0]

@@ -8,17 +8,21 @@ from cornerbids.corners import corner, corners
 from cornerbids.drawing import most_drawn
 from cornerbids.holders import least_lots, swings
 from cornerbids.honest import best_for, honest_at
+from cornerbids.houses import split
 from cornerbids.lines import line
 from cornerbids.logs import may_stand
 from cornerbids.outcomes import outcome, sides
 from cornerbids.plain import weights
 from cornerbids.plays import best_bids
+from cornerbids.quotas import is_scale, trade
 from cornerbids.ranges import wish_bounds
 from cornerbids.rests import is_rest
 from cornerbids.rules import Rule, value
 from cornerbids.stretches import outcome_within
 from cornerbids.tables import weights_of
+from cornerbids.talks import move
 from cornerbids.texts import rule_text
+from cornerbids.tidy import tidied
 
 m = Rule(3, ("mean", ((1, ("bid", 0)), (1, ("bid", 1)), (1, ("bid", 2)))))
 w = ((0, 1), (1, 2), (1, 1))
@@ -87,6 +91,20 @@ class TestExamples(unittest.TestCase):
 
     def test_e18(self):
         self.assertEqual(may_stand(((n, (1, 4)),), 0), [0, 1])
+
+    def test_e19(self):
+        self.assertEqual(move(n, ((1, 4), (0, 1)), o, 0), ((1, 2), (0, 1)))
+
+    def test_e20(self):
+        rule = Rule(2, ("least", (("bid", 0), ("least", (("bid", 1), ("bid", 0))))))
+        self.assertEqual(tidied(rule), Rule(2, ("least", (("bid", 0), ("bid", 1)))))
+
+    def test_e21(self):
+        self.assertIs(is_scale(m, (1, 2), ((1, 1, 1), 2)), True)
+        self.assertIsNone(trade(m, (1, 2)))
+
+    def test_e22(self):
+        self.assertEqual(outcome(split(n, 0), ((1, 4), (1, 1), (1, 4))), (1, 2))
 
 
 if __name__ == "__main__":

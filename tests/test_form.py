@@ -43,11 +43,17 @@ INTERFACE = {
     "chances": "chances mean_outcome likely_own likely_at_least",
     "holders": "least_lots least_blocks levels vetoes swings alone",
     "logs": "fits fitting places may_stand many_places",
+    "talks": "move stayers talk",
+    "tidy": "tidied size depth words_of",
+    "changes": "gainers all_gain is_all_gain nearest_rule fairest_rule beaten_by unbeaten duels outcomes best_number",
+    "quotas": "scale trade is_scale is_trade",
+    "houses": "frozen widened split merged House",
 }
 METHODS_OF = {
     ("rules", "Rule"): "__init__ __eq__",
     ("sittings", "Sitting"): "__init__ speaker bid play bids foreseen best told back copy trying",
     ("desks", "Desk"): "__init__ tell undoable",
+    ("houses", "House"): "__init__ wish comes goes edits standing outcome pull back depth copy trying",
 }
 
 
