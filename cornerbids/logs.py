@@ -1,6 +1,6 @@
 """Logs: the numbers of several rules for one row of wishes, and which wishes can stand behind them."""
 
-from cornerbids.amounts import ONE, ZERO, ascending, is_less, mean_of
+from cornerbids.amounts import ONE, ZERO, ascending, is_less
 from cornerbids.checks import is_number, need_person, need_wishes
 from cornerbids.corners import all_lots, corner_of
 from cornerbids.errors import NoLog, TooMany
@@ -93,15 +93,8 @@ def place_of(numbers, wish):
 
 
 def wish_at(numbers, place):
-    """A wish with this place."""
-    below, just = divmod(place, 2)
-    if just == 1:
-        return numbers[below]
-    if below == 0:
-        return ZERO
-    if below == len(numbers):
-        return ONE
-    return mean_of((1, 1), (numbers[below - 1], numbers[below]))
+    """A wish that fits where one of this place does: who wishes more than a number may as well wish just that."""
+    return numbers[(place - 1) // 2] if place > 0 else ZERO
 
 
 # A cut is where one place ends and the next one begins. Who stands above a cut is a lot; wishes fit if these lots are

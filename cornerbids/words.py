@@ -24,7 +24,7 @@ def number_of(word):
         return (int(word), 1)
     wholes = [whole_of(part) for part in word.split("/")]
     # What is 0 or 1 is not written with a bottom.
-    if len(wholes) != 2 or None in wholes or wholes[1] == 1:
+    if len(wholes) != 2 or wholes[1] == 1:
         return None
     number = (wholes[0], wholes[1])
     return number if is_number(number) else None
