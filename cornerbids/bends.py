@@ -131,7 +131,20 @@ class Lines:
         return put_together(lines, bending_places(lines), lambda numbers: mean_of(weights, numbers))
 
     def lesser(self, one, other):
+        if is_never_above(one, other):
+            return one
+        if is_never_above(other, one):
+            return other
         return put_together([one, other], parting_places(one, other), lambda pair: lesser(pair[0], pair[1]))
 
     def greater(self, one, other):
+        if is_never_above(one, other):
+            return other
+        if is_never_above(other, one):
+            return one
         return put_together([one, other], parting_places(one, other), lambda pair: greater(pair[0], pair[1]))
+
+
+def is_never_above(one, other):
+    """Whether all that one line tells is at most all that the other one tells: then nothing is to be put together."""
+    return not is_less(other[0][1], one[-1][1])
